@@ -1,0 +1,87 @@
+"""The form of the package: where the interface is defined, and the plainest rules of the language."""
+
+import ast
+import doctest
+import pathlib
+import unittest
+
+ROOT = pathlib.Path(__file__).resolve().parent.parent
+FILES = sorted((ROOT / "wholepages").iterdir())
+
+# For each file the functions, with their parameters, and the classes, with their methods.
+FUNCTIONS = {
+    "tables": {"check_row": "row, columns"},
+}
+CLASSES = {
+    "shapes": {"Shape": {
+        "__init__": "self, pages, slots, *, chunk=4, columns=2", "chunks": "self", "chunk_of": "self, page",
+        "pages_of": "self, chunk", "addresses": "self", "__contains__": "self, address"}},
+    "tables": {"Table": {
+        "__init__": "self, shape", "of": "cls, shape, rows", "put": "self, row", "put_at": "self, address, row",
+        "take": "self, address", "change": "self, address, row", "row_at": "self, address", "walk": "self",
+        "used": "self", "copied": "self", "__contains__": "self, address"}},
+}
+
+
+def parsed(name):
+    return ast.parse((ROOT / "wholepages" / f"{name}.py").read_text("ascii"))
+
+
+def defined(body, kind):
+    return {node.name: node for node in body if isinstance(node, kind)}
+
+
+class TheInterface(unittest.TestCase):
+    def test_functions_are_defined_in_their_files(self):
+        for name, functions in FUNCTIONS.items():
+            found = defined(parsed(name).body, ast.FunctionDef)
+            for function, parameters in functions.items():
+                self.assertEqual(ast.unparse(found[function].args), parameters)
+
+    def test_classes_and_their_methods_are_defined_in_their_files(self):
+        for name, classes in CLASSES.items():
+            found = defined(parsed(name).body, ast.ClassDef)
+            for kind, methods in classes.items():
+                own = defined(found[kind].body, ast.FunctionDef)
+                for method, parameters in methods.items():
+                    self.assertEqual(ast.unparse(own[method].args), parameters)
+
+
+class TheLanguage(unittest.TestCase):
+    def files(self):
+        return [(path, path.read_bytes()) for path in FILES if path.name != "__pycache__"]
+
+    def test_the_folder_has_nothing_but_files_of_python(self):
+        self.assertEqual({path.suffix for path, _ in self.files()}, {".py"})
+        self.assertIn("__init__.py", [path.name for path, _ in self.files()])
+
+    def test_characters_and_sizes(self):
+        for path, data in self.files():
+            lines = data.decode("ascii").split("\n")
+            with self.subTest(path.name):
+                self.assertTrue(all([32 <= code < 127 or code == 10 for code in data]))
+                self.assertLessEqual(len(lines) - 1, 399)
+                self.assertLessEqual(max(map(len, lines)), 120)
+                for node in ast.walk(ast.parse(data)):
+                    if isinstance(node, ast.FunctionDef):
+                        self.assertLessEqual(node.end_lineno - node.lineno + 1, 40, node.name)
+
+    def test_imports(self):
+        library = {"heapq", "math", "itertools"}
+        for path, data in self.files():
+            for node in ast.walk(ast.parse(data)):
+                self.assertNotIsInstance(node, ast.Import)
+                if isinstance(node, ast.ImportFrom) and node.module not in library:
+                    package, name = node.module.split(".")
+                    self.assertEqual(package, "wholepages")
+                    own = [part.name for part in parsed(name).body
+                           if isinstance(part, (ast.FunctionDef, ast.ClassDef))]
+                    own += [part.targets[0].id for part in parsed(name).body if isinstance(part, ast.Assign)]
+                    self.assertLessEqual({alias.name for alias in node.names}, set(own))
+
+
+class TheReadme(unittest.TestCase):
+    def test_its_examples(self):
+        found = doctest.testfile(str(ROOT / "README.md"), module_relative=False)
+        self.assertGreater(found.attempted, 0)
+        self.assertEqual(found.failed, 0)

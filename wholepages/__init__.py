@@ -1,0 +1,1 @@
+"""Wholepages: exact answers from lossy marks, with the fewest second looks."""
