@@ -11,6 +11,14 @@ FILES = sorted((ROOT / "wholepages").iterdir())
 # For each file the functions, with their parameters, and the classes, with their methods.
 FUNCTIONS = {
     "tables": {"check_row": "row, columns"},
+    "predicates": {"check_predicate": "predicate, *, columns=2", "count_nodes": "predicate",
+                   "truth": "predicate, row", "holds": "predicate, row", "describe": "predicate"},
+    "standins": {"numbers_of": "predicates, column", "stand_ins": "numbers", "stand_in": "value, numbers",
+                 "within": "numbers, low, high"},
+    "worlds": {"combine": "choices", "boxes": "predicates, *, columns=2", "worlds": "predicates, *, columns=2",
+               "parting_row": "first, second, *, columns=2"},
+    "marks": {"both_mark": "a, b", "either_mark": "a, b", "less_mark": "a, b", "agrees": "value, mark",
+              "truths_of": "mark", "mark_of": "truths"},
 }
 CLASSES = {
     "shapes": {"Shape": {
