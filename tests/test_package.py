@@ -19,6 +19,7 @@ FUNCTIONS = {
                "parting_row": "first, second, *, columns=2"},
     "marks": {"both_mark": "a, b", "either_mark": "a, b", "less_mark": "a, b", "agrees": "value, mark",
               "truths_of": "mark", "mark_of": "truths"},
+    "judges": {"rows_mark": "predicate, rows", "rows_pair": "predicate, rows"},
 }
 CLASSES = {
     "shapes": {"Shape": {
@@ -28,6 +29,19 @@ CLASSES = {
         "__init__": "self, shape", "of": "cls, shape, rows", "put": "self, row", "put_at": "self, address, row",
         "take": "self, address", "change": "self, address, row", "row_at": "self, address", "walk": "self",
         "used": "self", "copied": "self", "__contains__": "self, address"}},
+    "bitmaps": {"Bitmap": {
+        "__init__": "self, shape, rows", "filled": "cls, shape, mark", "mark": "self, address",
+        "marks_of": "self, page", "kind": "self, page", "entries": "self, chunk", "size": "self",
+        "marked": "self, address, mark", "forgotten": "self, *pages", "tells_all": "self, other",
+        "__and__": "self, other", "__or__": "self, other", "__sub__": "self, other",
+        "__contains__": "self, address", "__iter__": "self"}},
+    "hints": {"Hint": {
+        "__init__": "self, predicate, bitmap", "exact": "cls, predicate, table", "size": "self",
+        "forgotten": "self, *pages", "touched": "self, address", "wrong_at": "self, table",
+        "__and__": "self, other", "__or__": "self, other", "__sub__": "self, other"}},
+    "judges": {"Judge": {
+        "__init__": "self, predicates, query, *, columns=2", "__call__": "self, marks",
+        "allowed": "self, marks", "pair": "self, marks"}},
 }
 
 

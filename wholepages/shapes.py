@@ -1,6 +1,6 @@
 """Shapes: how many pages, slots and columns a table has, and its chunks of pages."""
 
-from wholepages.errors import BadShape, NoPlace
+from wholepages.errors import BadShape, NoPlace, OtherShape
 from wholepages.integers import is_between
 
 
@@ -37,8 +37,7 @@ class Shape:
 
     def chunk_of(self, page):
         """Return the chunk of the page."""
-        if not is_between(page, 0, self.pages - 1):
-            raise NoPlace(page)
+        check_page(page, self)
         return page // self.chunk
 
     def pages_of(self, chunk):
@@ -57,3 +56,26 @@ class Shape:
             return False
         page, slot = address
         return is_between(page, 0, self.pages - 1) and is_between(slot, 0, self.slots - 1)
+
+
+def check_page(page, shape):
+    """Raise NoPlace for every value that is not a page of the shape."""
+    if not is_between(page, 0, shape.pages - 1):
+        raise NoPlace(page)
+
+
+def check_address(address, shape):
+    """Raise NoPlace for every value that is not an address of the shape."""
+    if address not in shape:
+        raise NoPlace(address)
+
+
+def extents_of(shape):
+    """Return the tuple of the four integers of the shape."""
+    return (shape.pages, shape.slots, shape.chunk, shape.columns)
+
+
+def check_alike(shape, other):
+    """Raise OtherShape if the two shapes are not alike."""
+    if extents_of(shape) != extents_of(other):
+        raise OtherShape("the shapes are not alike")

@@ -1,7 +1,8 @@
 """Tables: rows at the addresses of a shape."""
 
-from wholepages.errors import BadRow, EmptySlot, NoPlace, SlotTaken, TableFull
+from wholepages.errors import BadRow, EmptySlot, SlotTaken, TableFull
 from wholepages.integers import GREATEST, is_between
+from wholepages.shapes import check_address
 
 
 def check_row(row, columns):
@@ -44,7 +45,7 @@ class Table:
 
     def put_at(self, address, row):
         """Put the row at the address, and return the address."""
-        self._check_address(address)
+        check_address(address, self.shape)
         kept = check_row(row, self.shape.columns)
         if address in self._rows:
             raise SlotTaken(address)
@@ -53,14 +54,14 @@ class Table:
 
     def take(self, address):
         """Remove the row at the address, and return the row."""
-        self._check_address(address)
+        check_address(address, self.shape)
         if address not in self._rows:
             raise EmptySlot(address)
         return self._rows.pop(address)
 
     def change(self, address, row):
         """Replace the row at the address, and return the old row."""
-        self._check_address(address)
+        check_address(address, self.shape)
         kept = check_row(row, self.shape.columns)
         if address not in self._rows:
             raise EmptySlot(address)
@@ -70,7 +71,7 @@ class Table:
 
     def row_at(self, address):
         """Return the row at the address, or None if it is empty."""
-        self._check_address(address)
+        check_address(address, self.shape)
         return self._rows.get(address)
 
     def walk(self):
@@ -93,8 +94,3 @@ class Table:
     def __contains__(self, address):
         # A value of another kind may have no hash, so the shape is asked first.
         return address in self.shape and address in self._rows
-
-    def _check_address(self, address):
-        """Raise NoPlace for every value that is not an address of the table."""
-        if address not in self.shape:
-            raise NoPlace(address)
