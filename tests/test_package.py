@@ -20,6 +20,7 @@ FUNCTIONS = {
     "marks": {"both_mark": "a, b", "either_mark": "a, b", "less_mark": "a, b", "agrees": "value, mark",
               "truths_of": "mark", "mark_of": "truths"},
     "judges": {"rows_mark": "predicate, rows", "rows_pair": "predicate, rows"},
+    "scans": {"scan": "table, hints, query"},
 }
 CLASSES = {
     "shapes": {"Shape": {
@@ -42,6 +43,19 @@ CLASSES = {
     "judges": {"Judge": {
         "__init__": "self, predicates, query, *, columns=2", "__call__": "self, marks",
         "allowed": "self, marks", "pair": "self, marks"}},
+    "scans": {"Scan": {"tested_pages": "self", "__iter__": "self"}},
+    "indexes": {
+        "Index": {"__init__": "self, shape", "entered": "self, address, row", "left": "self, address, row",
+                  "held": "self", "refresh": "self, table"},
+        "PartialIndex": {
+            "__init__": "self, shape, predicate", "entered": "self, address, row", "left": "self, address, row",
+            "hint": "self, predicate", "pair": "self, address, predicate", "listing": "self"}},
+    "columns": {"ColumnIndex": {
+        "__init__": "self, shape, column", "entered": "self, address, row", "left": "self, address, row",
+        "hint": "self, predicate", "pair": "self, address, predicate", "listing": "self"}},
+    "bounds": {"BoundsIndex": {
+        "__init__": "self, shape, *, span=1", "entered": "self, address, row", "left": "self, address, row",
+        "hint": "self, predicate", "pair": "self, address, predicate", "bounds": "self, page"}},
 }
 
 

@@ -77,7 +77,6 @@ class Bitmap:
     def marked(self, address, mark):
         """Return a bitmap with this mark at the address."""
         check_address(address, self.shape)
-        check_mark(mark)
         page, slot = address
         rows = [list(row) for row in self._marks]
         rows[page][slot] = mark
