@@ -21,6 +21,11 @@ FUNCTIONS = {
               "truths_of": "mark", "mark_of": "truths"},
     "judges": {"rows_mark": "predicate, rows", "rows_pair": "predicate, rows"},
     "scans": {"scan": "table, hints, query"},
+    "trees": {"check_tree": "tree, count", "check_plan": "plan, count", "tree_truth": "tree, truths",
+              "tree_mark": "tree, marks", "tree_hint": "tree, hints"},
+    "orders": {"mark_lists": "count, *, exact=False", "undecided": "plan, marks, known",
+               "costs_more": "first, second, predicates, query, *, columns=2, exact=False",
+               "least_plan": "predicates, query, *, columns=2, exact=False"},
 }
 CLASSES = {
     "shapes": {"Shape": {
@@ -56,6 +61,12 @@ CLASSES = {
     "bounds": {"BoundsIndex": {
         "__init__": "self, shape, *, span=1", "entered": "self, address, row", "left": "self, address, row",
         "hint": "self, predicate", "pair": "self, address, predicate", "bounds": "self, page"}},
+    "stores": {"Store": {
+        "__init__": "self, shape", "put": "self, row", "put_at": "self, address, row", "take": "self, address",
+        "change": "self, address, row", "apply": "self, deeds", "table_copy": "self",
+        "index_rows": "self, name, predicate", "index_column": "self, name, column",
+        "index_bounds": "self, name, *, span=1", "refresh": "self, name", "hint": "self, name, predicate",
+        "pair": "self, name, address, predicate"}},
 }
 
 

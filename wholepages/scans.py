@@ -1,12 +1,10 @@
 """Scans: the answers to a query over a table, and the rows that had to be tested for them."""
 
-from wholepages.errors import TooMany
 from wholepages.judges import Judge
+from wholepages.limits import check_many
 from wholepages.marks import IN, MAYBE
 from wholepages.predicates import holds
 from wholepages.shapes import check_alike
-
-MOST_HINTS = 4
 
 
 class Scan:
@@ -28,8 +26,7 @@ class Scan:
 
 def judge_of(table, hints, query):
     """Return the judge of the hints of a table and a query; raise what scan raises."""
-    if len(hints) > MOST_HINTS:
-        raise TooMany(len(hints))
+    check_many(len(hints))
     for hint in hints:
         check_alike(table.shape, hint.bitmap.shape)
     return Judge([hint.predicate for hint in hints], query, columns=table.shape.columns)
