@@ -26,6 +26,8 @@ FUNCTIONS = {
     "orders": {"mark_lists": "count, *, exact=False", "undecided": "plan, marks, known",
                "costs_more": "first, second, predicates, query, *, columns=2, exact=False",
                "least_plan": "predicates, query, *, columns=2, exact=False"},
+    "shelves": {"fit": "hints, room"},
+    "reports": {"report": "table, hints, scan"},
 }
 CLASSES = {
     "shapes": {"Shape": {
@@ -67,6 +69,23 @@ CLASSES = {
         "index_rows": "self, name, predicate", "index_column": "self, name, column",
         "index_bounds": "self, name, *, span=1", "refresh": "self, name", "hint": "self, name, predicate",
         "pair": "self, name, address, predicate"}},
+    "shelves": {"Shelf": {
+        "__init__": "self, shape, room", "room": "self", "size": "self", "names": "self", "hint": "self, name",
+        "keep": "self, name, hint", "drop": "self, name", "forget": "self, name, *pages",
+        "touched": "self, *addresses", "resize": "self, room"}},
+    "staircases": {"Staircase": {
+        "__init__": "self, table, hints, query", "least": "self", "full": "self", "tests": "self, room",
+        "choice": "self, room", "__iter__": "self"}},
+    "desks": {"Desk": {
+        "__init__": "self, shape, *, room=64", "room": "self", "size": "self", "put": "self, row",
+        "put_at": "self, address, row", "take": "self, address", "change": "self, address, row",
+        "apply": "self, deeds", "table_copy": "self", "index_rows": "self, name, predicate",
+        "index_column": "self, name, column", "index_bounds": "self, name, *, span=1", "refresh": "self, name",
+        "names": "self", "hint": "self, name", "drop": "self, name", "forget": "self, name, *pages",
+        "ask": "self, index, predicate", "pair": "self, index, address, predicate",
+        "keep": "self, name, index, predicate", "run": "self, query, *names, plan=None",
+        "keep_answer": "self, name, query, *names", "keep_join": "self, name, tree, *names",
+        "staircase": "self, query, *names", "resize": "self, room, *, query=None"}},
 }
 
 
